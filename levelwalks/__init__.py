@@ -1,0 +1,1 @@
+"""Loop programs over tables that are stored level by level."""

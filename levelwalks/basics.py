@@ -1,0 +1,13 @@
+"""What several files need to tell and to take over plain values."""
+
+
+def is_whole(n):
+    """Tell whether a value is an integer; True and False are none."""
+    return isinstance(n, int) and not isinstance(n, bool)
+
+
+def frozen(worth):
+    """Return a value with tuples in the place of all its lists."""
+    if isinstance(worth, (list, tuple)):
+        return tuple([frozen(part) for part in worth])
+    return worth

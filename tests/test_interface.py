@@ -1,0 +1,65 @@
+"""[62]: names, arguments and kinds of values, each in the file under which it is listed."""
+
+import inspect
+import unittest
+
+from levelwalks import errors, forms, storing
+from tests.test_errors import PARAMETERS
+
+
+def parameters(function):
+    return [name for name in inspect.signature(function).parameters if name != "self"]
+
+
+class InterfaceTest(unittest.TestCase):
+    def test_each_class_stands_in_its_own_file(self):
+        for name in ["WalkError", *PARAMETERS]:
+            self.assertEqual(getattr(errors, name).__module__, "levelwalks.errors")
+        self.assertEqual(forms.Form.__module__, "levelwalks.forms")
+        self.assertEqual(storing.Stored.__module__, "levelwalks.storing")
+
+    def test_each_method_stands_in_its_class(self):
+        for name in ("text", "KINDS", "read"):
+            self.assertIn(name, vars(forms.Form))
+        for name in ("walk", "locate", "entries", "restored", "changed", "__getitem__", "__contains__", "__len__"):
+            self.assertIn(name, vars(storing.Stored))
+
+    def test_properties_and_class_methods(self):
+        self.assertIsInstance(vars(forms.Form)["text"], property)
+        self.assertIsInstance(vars(forms.Form)["read"], classmethod)
+
+    def test_the_parameters_of_the_methods(self):
+        self.assertEqual(parameters(forms.Form.read), ["text"])
+        self.assertEqual(parameters(storing.Stored.walk), ["level", "place"])
+        self.assertEqual(parameters(storing.Stored.locate), ["level", "place", "coordinate"])
+        self.assertEqual(parameters(storing.Stored.entries), [])
+        self.assertEqual(parameters(storing.Stored.restored), ["form"])
+        self.assertEqual(parameters(storing.Stored.changed), ["at", "value"])
+
+    def test_the_parameters_of_the_classes(self):
+        form = forms.Form("dense", "bits", axes=[1, 0])
+        self.assertEqual((form.kinds, form.axes), (("dense", "bits"), (1, 0)))
+        table = storing.Stored(cells={(0, 2): 3}, form=form, sizes=[2, 3])
+        self.assertEqual(table.sizes, (2, 3))
+        self.assertIs(table.form, form)
+        self.assertEqual(list(table.entries()), [((0, 2), 3)])
+
+    def test_attributes_are_set_when_the_object_is_created(self):
+        for name in ("kinds", "axes"):
+            self.assertTrue(hasattr(forms.Form("dense"), name))
+        for name in ("sizes", "form", "levels", "data"):
+            self.assertTrue(hasattr(storing.Stored((), forms.Form(), {}), name))
+
+    def test_the_kinds_of_values(self):
+        table = storing.Stored((2,), forms.Form("bits"), {(1,): 3})
+        self.assertIsInstance(table.form.text, str)
+        self.assertIs(type(table[(1,)]), int)
+        self.assertIs(type(len(table)), int)
+        self.assertIs(type(table.walk(0, 0)), tuple)
+        self.assertIs(type(table.locate(0, 0, 1)), int)
+        self.assertIsNone(table.locate(0, 0, 0))
+        self.assertIs((1,) in table, True)
+
+
+if __name__ == "__main__":
+    unittest.main()
