@@ -11,3 +11,13 @@ def frozen(worth):
     if isinstance(worth, (list, tuple)):
         return tuple([frozen(part) for part in worth])
     return worth
+
+
+def whole_in(word):
+    """Return the integer that Python writes as this word, or None."""
+    digits = word.removeprefix("-")
+    if not digits.isdigit() or not digits.isascii():
+        return None
+    if str(int(word)) != word:
+        return None
+    return int(word)

@@ -3,8 +3,17 @@
 import inspect
 import unittest
 
-from levelwalks import errors, forms, storing
+from levelwalks import errors, expressions, forms, functions, reading, storing, tabletexts
 from tests.test_errors import PARAMETERS
+
+
+# The functions of each file, with their parameters.
+FUNCTIONS = (
+    (tabletexts, {"table_text": ["stored"], "read_table": ["text"]}),
+    (expressions, {"number": ["n"], "access": ["name", "letters"], "value_of": ["expression", "values"]}),
+    (functions, {name: ["x", "y"] for name in ("greater", "lesser", "below", "at_most", "equal", "unequal")}),
+    (reading, {"read_expression": ["text"]}),
+)
 
 
 def parameters(function):
@@ -17,15 +26,28 @@ class InterfaceTest(unittest.TestCase):
             self.assertEqual(getattr(errors, name).__module__, "levelwalks.errors")
         self.assertEqual(forms.Form.__module__, "levelwalks.forms")
         self.assertEqual(storing.Stored.__module__, "levelwalks.storing")
+        self.assertEqual(expressions.Expression.__module__, "levelwalks.expressions")
+
+    def test_each_function_stands_in_its_own_file(self):
+        for module, told in FUNCTIONS:
+            for name in told:
+                function = getattr(module, name)
+                self.assertTrue(inspect.isfunction(function), name)
+                self.assertEqual((function.__name__, function.__module__), (name, module.__name__))
+                self.assertEqual(parameters(function), told[name])
 
     def test_each_method_stands_in_its_class(self):
         for name in ("text", "KINDS", "read"):
             self.assertIn(name, vars(forms.Form))
         for name in ("walk", "locate", "entries", "restored", "changed", "__getitem__", "__contains__", "__len__"):
             self.assertIn(name, vars(storing.Stored))
+        signs = "add sub mul and or xor radd rsub rmul rand ror rxor floordiv mod pow lshift rshift neg pos invert abs"
+        for name in ["text", *[f"__{sign}__" for sign in (signs + " iadd isub").split(" ")]]:
+            self.assertIn(name, vars(expressions.Expression))
 
     def test_properties_and_class_methods(self):
         self.assertIsInstance(vars(forms.Form)["text"], property)
+        self.assertIsInstance(vars(expressions.Expression)["text"], property)
         self.assertIsInstance(vars(forms.Form)["read"], classmethod)
 
     def test_the_parameters_of_the_methods(self):
@@ -49,6 +71,11 @@ class InterfaceTest(unittest.TestCase):
             self.assertTrue(hasattr(forms.Form("dense"), name))
         for name in ("sizes", "form", "levels", "data"):
             self.assertTrue(hasattr(storing.Stored((), forms.Form(), {}), name))
+        gain = expressions.access("a", "i")
+        gain += 1
+        for x in (expressions.number(1), expressions.access("a"), expressions.number(1) + 1, gain):
+            for name in ("kind", "parts", "letters", "accesses", "node_count"):
+                self.assertTrue(hasattr(x, name))
 
     def test_the_kinds_of_values(self):
         table = storing.Stored((2,), forms.Form("bits"), {(1,): 3})
@@ -59,6 +86,14 @@ class InterfaceTest(unittest.TestCase):
         self.assertIs(type(table.locate(0, 0, 1)), int)
         self.assertIsNone(table.locate(0, 0, 0))
         self.assertIs((1,) in table, True)
+        x = expressions.access("a", "i") + 1
+        self.assertIsInstance(tabletexts.table_text(table), str)
+        self.assertIsInstance(x.text, str)
+        self.assertIs(type(x.parts), tuple)
+        self.assertIs(type(x.accesses), tuple)
+        self.assertIs(type(x.letters), tuple)
+        self.assertIs(type(x.node_count), int)
+        self.assertIs(type(expressions.value_of(x, {("a", ("i",)): 2})), int)
 
 
 if __name__ == "__main__":
