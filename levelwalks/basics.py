@@ -21,3 +21,16 @@ def whole_in(word):
     if str(int(word)) != word:
         return None
     return int(word)
+
+
+def ascending(names):
+    """Return names in ascending order, without duplicates."""
+    return tuple(sorted(set(names)))
+
+
+def all_coordinates(sizes):
+    """Return all coordinates of axes with these sizes, in ascending order."""
+    found = [()]
+    for size in sizes:
+        found = [(*at, c) for at in found for c in range(size)]
+    return found

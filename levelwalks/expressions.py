@@ -1,6 +1,6 @@
 """Expressions: integers and accesses of tables, joined by operators that compute nothing."""
 
-from levelwalks.basics import is_whole
+from levelwalks.basics import ascending, is_whole
 from levelwalks.errors import BadNumber, NotAnAccess, NotAnExpression, RepeatedLetter
 
 SIGNS = {
@@ -139,7 +139,7 @@ class Expression:
         # The parts of an access are just the pair by which it is told.
         own = [self.parts] if kind == "access" else []
         self.accesses = tuple(own + [pair for operand in operands for pair in operand.accesses])
-        self.letters = tuple(sorted(set([letter for pair in self.accesses for letter in pair[1]])))
+        self.letters = ascending([letter for pair in self.accesses for letter in pair[1]])
 
     @property
     def text(self):

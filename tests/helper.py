@@ -273,6 +273,7 @@ def gains():
 # tuple for which `replacements` gives the sequences of symbols in its place.
 LOWER = "abcdefghijklmnopqrstuvwxyz"
 EXPRESSION = ("expression",)
+STATEMENT = (("access",), " ", ("assigns",), " ", EXPRESSION)
 POSITIVE = (("any", "123456789"), ("digits",))
 
 
@@ -304,6 +305,8 @@ def replacements(symbol):
     if symbol[0] == "sign":
         found = [(*SIGNS[kind], " ", EXPRESSION) for kind in SIGNS if kind in TWO_OPERANDS]
         return found + [(*SIGNS[kind], " ", ("behind", kind)) for kind in SIGNS if kind in NUMBERED]
+    if symbol[0] == "assigns":
+        return words_of(("=", "+=", "-="))
     if symbol[0] == "behind":
         return integers_behind(symbol[1])
     if symbol[0] == "access":
@@ -311,6 +314,7 @@ def replacements(symbol):
     if symbol[0] == "name":
         longer = [(("any", LOWER), ("name", symbol[1] - 1))] if symbol[1] > 1 else []
         return [(("any", LOWER),)] + longer
+    assert symbol[0] == "letters"
     used = symbol[1]
     found = [(letter,) for letter in LOWER if letter not in used]
     if len(used) < 2:

@@ -3,7 +3,9 @@
 import inspect
 import unittest
 
-from levelwalks import errors, expressions, forms, functions, reading, storing, tabletexts
+from levelwalks import (
+    counts, errors, expressions, forms, functions, programs, reading, statements, storing, tabletexts,
+)
 from tests.test_errors import PARAMETERS
 
 
@@ -13,6 +15,8 @@ FUNCTIONS = (
     (expressions, {"number": ["n"], "access": ["name", "letters"], "value_of": ["expression", "values"]}),
     (functions, {name: ["x", "y"] for name in ("greater", "lesser", "below", "at_most", "equal", "unequal")}),
     (reading, {"read_expression": ["text"]}),
+    (statements, {"plain": ["statement", "tables"]}),
+    (programs, {"check": ["program"]}),
 )
 
 
@@ -27,6 +31,10 @@ class InterfaceTest(unittest.TestCase):
         self.assertEqual(forms.Form.__module__, "levelwalks.forms")
         self.assertEqual(storing.Stored.__module__, "levelwalks.storing")
         self.assertEqual(expressions.Expression.__module__, "levelwalks.expressions")
+        self.assertEqual(statements.Statement.__module__, "levelwalks.statements")
+        self.assertEqual(counts.Counts.__module__, "levelwalks.counts")
+        for name in ("Use", "Loop", "Block", "Add", "Program"):
+            self.assertEqual(getattr(programs, name).__module__, "levelwalks.programs")
 
     def test_each_function_stands_in_its_own_file(self):
         for module, told in FUNCTIONS:
@@ -44,14 +52,21 @@ class InterfaceTest(unittest.TestCase):
         signs = "add sub mul and or xor radd rsub rmul rand ror rxor floordiv mod pow lshift rshift neg pos invert abs"
         for name in ["text", *[f"__{sign}__" for sign in (signs + " iadd isub").split(" ")]]:
             self.assertIn(name, vars(expressions.Expression))
+        for name in ("text", "read"):
+            self.assertIn(name, vars(statements.Statement))
+        for sign in ("add", "iadd", "eq", "lt", "le", "gt", "ge"):
+            self.assertIn(f"__{sign}__", vars(counts.Counts))
 
     def test_properties_and_class_methods(self):
         self.assertIsInstance(vars(forms.Form)["text"], property)
         self.assertIsInstance(vars(expressions.Expression)["text"], property)
+        self.assertIsInstance(vars(statements.Statement)["text"], property)
+        self.assertIsInstance(vars(statements.Statement)["read"], classmethod)
         self.assertIsInstance(vars(forms.Form)["read"], classmethod)
 
     def test_the_parameters_of_the_methods(self):
         self.assertEqual(parameters(forms.Form.read), ["text"])
+        self.assertEqual(parameters(statements.Statement.read), ["text"])
         self.assertEqual(parameters(storing.Stored.walk), ["level", "place"])
         self.assertEqual(parameters(storing.Stored.locate), ["level", "place", "coordinate"])
         self.assertEqual(parameters(storing.Stored.entries), [])
@@ -65,12 +80,31 @@ class InterfaceTest(unittest.TestCase):
         self.assertEqual(table.sizes, (2, 3))
         self.assertIs(table.form, form)
         self.assertEqual(list(table.entries()), [((0, 2), 3)])
+        for told, names in (
+            (statements.Statement, ["target", "expression", "sign"]), (counts.Counts, ["turns", "additions"]),
+            (programs.Use, ["name", "letters", "form"]), (programs.Loop, ["letter", "leaders", "cases"]),
+            (programs.Block, ["nodes"]), (programs.Add, ["expression"]), (programs.Program, ["target", "uses", "node"]),
+        ):
+            self.assertEqual(parameters(told), names)
 
     def test_attributes_are_set_when_the_object_is_created(self):
         for name in ("kinds", "axes"):
             self.assertTrue(hasattr(forms.Form("dense"), name))
         for name in ("sizes", "form", "levels", "data"):
             self.assertTrue(hasattr(storing.Stored((), forms.Form(), {}), name))
+        c, one = expressions.access("c"), expressions.number(1)
+        use, add = programs.Use("a", (), forms.Form()), programs.Add(one)
+        for made, names in (
+            (statements.Statement(c, one), ("target", "expression", "sign", "letters")),
+            (counts.Counts(), ("turns", "additions")),
+            (use, ("name", "letters", "form")),
+            (programs.Loop("i", (), ()), ("letter", "leaders", "cases")),
+            (programs.Block(()), ("nodes",)),
+            (add, ("expression",)),
+            (programs.Program(c, (use,), add), ("target", "uses", "node", "letters")),
+        ):
+            for name in names:
+                self.assertTrue(hasattr(made, name), name)
         gain = expressions.access("a", "i")
         gain += 1
         for x in (expressions.number(1), expressions.access("a"), expressions.number(1) + 1, gain):
