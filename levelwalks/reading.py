@@ -18,7 +18,7 @@ def is_name(word):
 
 def is_natural(word):
     """Tell whether a word is an integer that is not negative, as Python writes it."""
-    return word == "0" or word[:1] != "0" and all([sign in DIGITS for sign in word])
+    return word == "0" or (word[:1] != "0" and all([sign in DIGITS for sign in word]))
 
 
 def begins_one(word, words):

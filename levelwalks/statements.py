@@ -49,14 +49,14 @@ def check_tables(accesses, tables):
 
 
 def letter_sizes(accesses, tables):
-    """Return the size of each letter, in ascending order, if the tables fit the accesses."""
+    """Return the size of each letter, if the tables fit the accesses."""
     check_tables(accesses, tables)
     pairs = [pair for name, letters in accesses for pair in zip(letters, tables[name].sizes)]
     sizes = dict(pairs)
-    for letter in sorted(sizes):
-        if any([size != sizes[letter] for other, size in pairs if other == letter]):
-            raise SizeClash(letter)
-    return {letter: sizes[letter] for letter in sorted(sizes)}
+    clashing = [letter for letter, size in pairs if size != sizes[letter]]
+    if len(clashing) > 0:
+        raise SizeClash(ascending(clashing)[0])
+    return sizes
 
 
 def coordinates_at(letters, spot):

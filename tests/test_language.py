@@ -30,8 +30,10 @@ NO_WORDS = (
     " namedtuple NamedTuple TypedDict TYPE_CHECKING abstractmethod".split()
 )
 NO_PARTS = ("dataclass", "overload", "contextmanager")
+# Generator expressions and `+=` are barred in most places beside operators, so they are not used at all.
 NO_NODES = (
     ast.Global, ast.AsyncFunctionDef, ast.AsyncFor, ast.AsyncWith, ast.Await, ast.Div, ast.MatMult, ast.Import,
+    ast.GeneratorExp, ast.AugAssign,
 )
 AT_TOP = (ast.ImportFrom, ast.FunctionDef, ast.ClassDef, ast.Assign, ast.AnnAssign)
 
