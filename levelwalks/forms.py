@@ -53,3 +53,11 @@ class Form:
             kinds.append(words[0])
             axes.append(int(words[1]))
         return Form(*kinds, axes=axes)
+
+
+def leading_depth(form, depth):
+    """Return to how many of its first levels a path must lead to a value, so that these levels store it.
+
+    A dense level stores all coordinates, so only the last level among them that is not dense counts.
+    """
+    return max([level + 1 for level in range(depth) if form.kinds[level] != "dense"], default=0)

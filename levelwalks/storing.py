@@ -2,6 +2,7 @@
 
 from levelwalks.basics import frozen, is_whole
 from levelwalks.errors import BadForm, BadSizes, NoLocate, NoWalk, OutOfRange, TooLarge
+from levelwalks.forms import leading_depth
 
 MOST_AXES = 3
 LARGEST_SIZE = 6
@@ -92,9 +93,25 @@ def row_below(kind, size, path, leading):
     return [c for c in range(size) if (*path, c) in leading]
 
 
+def leading_paths(paths):
+    """Return the beginnings of paths to values, each with True."""
+    return {path[:depth]: True for path in paths for depth in range(1, len(path) + 1)}
+
+
+def leads_of(table, form):
+    """Return the paths that lead to values of a table where it is walked in a form, each with True."""
+    return leading_paths([path_of(form, at) for at, value in table.entries()])
+
+
+def is_stored(form, leads, path):
+    """Tell whether a table in this form stores a path, where `leads` are its paths that lead to values."""
+    depth = leading_depth(form, len(path))
+    return depth == 0 or path[:depth] in leads
+
+
 def laid_out(sizes, form, worths):
     """Return the levels and the data, where `worths` has the values that are not 0 under their paths."""
-    leading = {path[:depth]: True for path in worths for depth in range(1, len(path) + 1)}
+    leading = leading_paths(worths)
     levels = []
     paths = [()]
     for kind, axis in zip(form.kinds, form.axes):

@@ -4,7 +4,11 @@ from itertools import permutations, product
 from random import Random
 
 from levelwalks import functions
+from levelwalks.errors import Illegal
 from levelwalks.expressions import access, number
+from levelwalks.forms import Form
+from levelwalks.programs import Add, Block, Loop, Program, Use, check
+from levelwalks.storing import Stored
 
 KINDS = ("dense", "packed", "bits", "hashed")
 
@@ -350,3 +354,222 @@ def changed_texts(text, signs):
         yield text[:at] + text[at + 1:]
         yield text[:at] + text[at:at + 1] + text[at:]
         yield text[:at] + text[at + 1:at + 2] + text[at:at + 1] + text[at + 2:]
+
+
+# Programs: what the document says of them, on objects of the package.
+ONE = Add(number(1))
+NOTHING = Block(())
+
+
+def use(name, letters, form="-"):
+    return Use(name, tuple(letters), Form.read(form))
+
+
+def each(letters, inside, leaders=((),)):
+    """Loops over these letters, from the outside to the inside, each with one case without needs."""
+    for letter in reversed(letters):
+        inside = Loop(letter, leaders, (((), inside),))
+    return inside
+
+
+def table(sizes, cells=None, form=None):
+    return Stored(sizes, Form(*["dense"] * len(sizes)) if form is None else Form.read(form), cells or {})
+
+
+def resolved(use_of, bound):
+    """The resolved levels of a use, as pairs (kind, letter)."""
+    found = []
+    for kind, axis in zip(use_of.form.kinds, use_of.form.axes):
+        if use_of.letters[axis] not in bound:
+            break
+        found.append((kind, use_of.letters[axis]))
+    return found
+
+
+def model_fits(use_of, bound):
+    levels = resolved(use_of, bound)
+    return not any(
+        levels[upper][1] in bound[bound.index(levels[lower][1]):]
+        for lower in range(len(levels)) for upper in range(lower) if levels[lower][0] == "packed"
+    )
+
+
+def model_leads(use_of, letter, bound):
+    many = len(resolved(use_of, bound))
+    if not model_fits(use_of, bound) or many == len(use_of.letters):
+        return False
+    return use_of.form.kinds[many] != "hashed" and use_of.letters[use_of.form.axes[many]] == letter
+
+
+def program_accesses(program):
+    return [program.target.parts, *((each_use.name, each_use.letters) for each_use in program.uses)]
+
+
+class ModelRun:
+    """A run by the document: the bindings of the turns in their order, and the trace."""
+
+    def __init__(self, program, tables):
+        self.program, self.tables, self.bindings, self.trace = program, tables, [], []
+        self.sizes = {}
+        for name, letters in program_accesses(program):
+            self.sizes.update(zip(letters, tables[name].sizes))
+        self.paths = [self.all_paths(each_use) for each_use in program.uses]
+        self.go(program.node, {})
+        self.sums = {}
+        for point, amount in self.trace:
+            spot = dict(zip(program.letters, point))
+            at = tuple(spot[letter] for letter in program.target.parts[1])
+            self.sums[at] = self.sums.get(at, 0) + amount
+
+    def all_paths(self, each_use):
+        stored = self.tables[each_use.name]
+        levels = level_paths(stored.sizes, each_use.form.kinds, each_use.form.axes, dict(stored.entries()))
+        return {path for level in levels for path in level}
+
+    def path(self, number_of, spot):
+        return tuple(spot[letter] for kind, letter in resolved(self.program.uses[number_of], spot))
+
+    def go(self, node, spot):
+        if isinstance(node, Add):
+            values = {
+                (name, letters): self.tables[name][tuple(spot[letter] for letter in letters)]
+                for name, letters in node.expression.accesses
+            }
+            point = tuple(spot[letter] for letter in self.program.letters)
+            self.trace.append((point, model_value(model_of(node.expression), values)))
+        elif isinstance(node, Block):
+            for inside in node.nodes:
+                self.go(inside, spot)
+        else:
+            for c in range(self.sizes[node.letter]):
+                if any(all(self.path(n, spot) + (c,) in self.paths[n] for n in group) for group in node.leaders):
+                    self.turn(node, {**spot, node.letter: c})
+
+    def turn(self, loop, spot):
+        self.bindings.append(tuple(sorted(spot.items())))
+        for needs, inside in loop.cases:
+            if all(self.path(n, spot) in self.paths[n] for n in needs):
+                self.go(inside, spot)
+                break
+
+    def turns_at(self, binding):
+        return self.bindings.count(binding)
+
+    def additions_at(self, binding):
+        point = tuple(c for letter, c in binding)
+        whole = tuple(letter for letter, c in binding) == self.program.letters
+        return sum(at == point for at, amount in self.trace) if whole else 0
+
+    def sum_at(self, point):
+        return sum(amount for at, amount in self.trace if at == point)
+
+
+def model_amount(statement, tables, point):
+    """The amount of a point in a statement."""
+    spot = dict(zip(statement.letters, point))
+    return model_value(model_of(statement.expression), {
+        (name, letters): tables[name][tuple(spot[letter] for letter in letters)]
+        for name, letters in statement.expression.accesses
+    })
+
+
+def node_model(node):
+    """A node as nested tuples, which are equal if the nodes are alike."""
+    if isinstance(node, Add):
+        return ("add", model_of(node.expression))
+    if isinstance(node, Block):
+        return ("block", tuple(map(node_model, node.nodes)))
+    return ("loop", node.letter, node.leaders, tuple((needs, node_model(inside)) for needs, inside in node.cases))
+
+
+def program_model(program):
+    uses = tuple((each_use.name, each_use.letters, each_use.form.kinds, each_use.form.axes) for each_use in program.uses)
+    return (model_of(program.target), uses, node_model(program.node))
+
+
+def is_legal(program):
+    try:
+        check(program)
+    except Illegal:
+        return False
+    return True
+
+
+class Maker:
+    """Makes programs, tables and polynomials that are legal and fit, by chance."""
+
+    RANKS = {"a": 2, "b": 1, "d": 2, "s": 0, "t": 3}
+
+    def __init__(self, seed, letters="ijk", most_uses=3):
+        self.chance = Random(seed)
+        self.letters = letters
+        self.most_uses = most_uses
+
+    def some(self, worths, most=2):
+        return sorted(self.chance.sample(worths, min(len(worths), self.chance.randint(0, most))))
+
+    def form(self, rank):
+        kinds = [self.chance.choice(KINDS) for level in range(rank)]
+        return Form(*kinds, axes=self.chance.sample(range(rank), rank))
+
+    def any_use(self):
+        name = self.chance.choice([name for name, rank in self.RANKS.items() if rank <= len(self.letters)])
+        return Use(name, self.chance.sample(self.letters, self.RANKS[name]), self.form(self.RANKS[name]))
+
+    def target(self):
+        return access("c", *self.letters[:self.chance.randint(0, min(2, len(self.letters)))])
+
+    def polynomial(self, accesses, depth=2):
+        """An expression of the kinds of polynomials."""
+        kind = self.chance.choice(["number", "access", "access", "plus", "minus", "times", "times", "negative", "power"])
+        if depth == 0 and kind not in ("number", "access"):
+            kind = "access"
+        if kind == "number" or kind == "access" and not accesses:
+            return number(self.chance.randint(-2, 3))
+        if kind == "access":
+            name, letters = self.chance.choice(accesses)
+            return access(name, *letters)
+        x = self.polynomial(accesses, depth - 1)
+        if kind == "negative":
+            return -x
+        if kind == "power":
+            return x ** self.chance.randint(1, 2)
+        return OPERATORS[kind](x, self.polynomial(accesses, depth - 1))
+
+    def node(self, uses, letters, bound, depth):
+        free = [letter for letter in letters if letter not in bound]
+        if depth > 0 and self.chance.random() < 0.15:
+            return Block([self.node(uses, letters, bound, depth - 1) for number_of in range(self.chance.randint(0, 2))])
+        if free:
+            return self.loop(uses, letters, bound, depth)
+        fitting = [(each_use.name, each_use.letters) for each_use in uses if model_fits(each_use, bound)]
+        return Add(self.polynomial(fitting))
+
+    def loop(self, uses, letters, bound, depth):
+        letter = self.chance.choice([letter for letter in letters if letter not in bound])
+        inside = bound + [letter]
+        leading = [n for n in range(len(uses)) if model_leads(uses[n], letter, bound)]
+        fitting = [n for n in range(len(uses)) if model_fits(uses[n], inside)]
+        leaders = [self.some(leading) for group in range(self.chance.choice([0, 1, 1, 1, 1, 2, 2, 3]))]
+        return Loop(letter, leaders, [
+            (self.some(fitting), self.node(uses, letters, inside, depth - 1))
+            for case in range(self.chance.choice([0, 1, 1, 2, 2, 3]))
+        ])
+
+    def program(self, target=None, uses=None):
+        uses = [self.any_use() for number_of in range(self.chance.randint(0, self.most_uses))] if uses is None else uses
+        target = self.target() if target is None else target
+        letters = sorted({letter for each_use in uses for letter in each_use.letters} | set(target.letters))
+        return Program(target, uses, self.node(uses, letters, [], 5))
+
+    def tables(self, accesses, size=None):
+        """Tables that fit accesses, all of whose axes have one size."""
+        size = self.chance.randint(1, 3) if size is None else size
+        found = {}
+        for name, letters in accesses:
+            shape = (size,) * len(letters)
+            places = list(product(range(size), repeat=len(letters)))
+            many = self.chance.choice([0, 1, 2, len(places) // 2, len(places)])
+            cells = {at: self.chance.choice([-3, -2, -1, 1, 2, 5]) for at in self.chance.sample(places, min(many, len(places)))}
+            found[name] = Stored(shape, self.form(len(letters)), cells)
+        return found

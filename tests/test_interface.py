@@ -4,7 +4,8 @@ import inspect
 import unittest
 
 from levelwalks import (
-    counts, errors, expressions, forms, functions, programs, reading, statements, storing, tabletexts,
+    counts, errors, expressions, families, forms, functions, polynomials, programs, programtexts, reading, running,
+    statements, storing, tabletexts,
 )
 from tests.test_errors import PARAMETERS
 
@@ -17,6 +18,9 @@ FUNCTIONS = (
     (reading, {"read_expression": ["text"]}),
     (statements, {"plain": ["statement", "tables"]}),
     (programs, {"check": ["program"]}),
+    (programtexts, {"program_text": ["program"], "read_program": ["text"]}),
+    (running, {"run": ["program", "tables"]}),
+    (polynomials, {"polynomial": ["expression"], "parting": ["p", "q"]}),
 )
 
 
@@ -35,6 +39,9 @@ class InterfaceTest(unittest.TestCase):
         self.assertEqual(counts.Counts.__module__, "levelwalks.counts")
         for name in ("Use", "Loop", "Block", "Add", "Program"):
             self.assertEqual(getattr(programs, name).__module__, "levelwalks.programs")
+        self.assertEqual(running.Result.__module__, "levelwalks.running")
+        self.assertEqual(families.Family.__module__, "levelwalks.families")
+        self.assertEqual(polynomials.Polynomial.__module__, "levelwalks.polynomials")
 
     def test_each_function_stands_in_its_own_file(self):
         for module, told in FUNCTIONS:
@@ -56,6 +63,11 @@ class InterfaceTest(unittest.TestCase):
             self.assertIn(name, vars(statements.Statement))
         for sign in ("add", "iadd", "eq", "lt", "le", "gt", "ge"):
             self.assertIn(f"__{sign}__", vars(counts.Counts))
+        for name in ("patterns", "pattern_at", "small_tables"):
+            self.assertIn(name, vars(families.Family))
+        signs = "call add radd sub rsub mul rmul pow neg eq".split(" ")
+        for name in ["constant", "unknown", "without", *[f"__{sign}__" for sign in signs]]:
+            self.assertIn(name, vars(polynomials.Polynomial))
 
     def test_properties_and_class_methods(self):
         self.assertIsInstance(vars(forms.Form)["text"], property)
@@ -63,6 +75,8 @@ class InterfaceTest(unittest.TestCase):
         self.assertIsInstance(vars(statements.Statement)["text"], property)
         self.assertIsInstance(vars(statements.Statement)["read"], classmethod)
         self.assertIsInstance(vars(forms.Form)["read"], classmethod)
+        for name in ("constant", "unknown"):
+            self.assertIsInstance(vars(polynomials.Polynomial)[name], classmethod)
 
     def test_the_parameters_of_the_methods(self):
         self.assertEqual(parameters(forms.Form.read), ["text"])
@@ -72,6 +86,14 @@ class InterfaceTest(unittest.TestCase):
         self.assertEqual(parameters(storing.Stored.entries), [])
         self.assertEqual(parameters(storing.Stored.restored), ["form"])
         self.assertEqual(parameters(storing.Stored.changed), ["at", "value"])
+        self.assertEqual(parameters(families.Family.patterns), [])
+        self.assertEqual(parameters(families.Family.pattern_at), ["tables", "point"])
+        self.assertEqual(parameters(families.Family.small_tables), ["pattern", "values"])
+        self.assertIsNone(inspect.signature(families.Family.small_tables).parameters["values"].default)
+        self.assertEqual(parameters(polynomials.Polynomial.constant), ["n"])
+        self.assertEqual(parameters(polynomials.Polynomial.unknown), ["name"])
+        self.assertEqual(parameters(polynomials.Polynomial.without), ["names"])
+        self.assertEqual(parameters(polynomials.Polynomial.__call__), ["values"])
 
     def test_the_parameters_of_the_classes(self):
         form = forms.Form("dense", "bits", axes=[1, 0])
@@ -102,6 +124,9 @@ class InterfaceTest(unittest.TestCase):
             (programs.Block(()), ("nodes",)),
             (add, ("expression",)),
             (programs.Program(c, (use,), add), ("target", "uses", "node", "letters")),
+            (running.run(programs.Program(c, (), add), {"c": storing.Stored((), forms.Form(), {})}), ("cells", "trace", "counts")),
+            (families.Family(programs.Program(c, (use,), add)), ("members", "letters", "ranks")),
+            (polynomials.Polynomial.constant(3), ("terms",)),
         ):
             for name in names:
                 self.assertTrue(hasattr(made, name), name)
@@ -128,6 +153,14 @@ class InterfaceTest(unittest.TestCase):
         self.assertIs(type(x.letters), tuple)
         self.assertIs(type(x.node_count), int)
         self.assertIs(type(expressions.value_of(x, {("a", ("i",)): 2})), int)
+        self.assertIsInstance(polynomials.polynomial(x), polynomials.Polynomial)
+        self.assertIs(type(polynomials.polynomial(x)({"a[i]": 4})), int)
+        program = programs.Program(expressions.access("c"), (), programs.Block(()))
+        self.assertIsInstance(programtexts.program_text(program), str)
+        self.assertIsInstance(programtexts.read_program("program c[]\nblock"), programs.Program)
+        result = running.run(program, {"c": storing.Stored((), forms.Form(), {})})
+        self.assertEqual([type(worth) for worth in (result.cells, result.trace)], [dict, tuple])
+        self.assertIsInstance(result.counts, counts.Counts)
 
 
 if __name__ == "__main__":

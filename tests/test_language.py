@@ -35,6 +35,13 @@ NO_NODES = (
     ast.Global, ast.AsyncFunctionDef, ast.AsyncFor, ast.AsyncWith, ast.Await, ast.Div, ast.MatMult, ast.Import,
     ast.GeneratorExp, ast.AugAssign,
 )
+# The methods of builtin values in L25 that are called anywhere, without those that other rules bar beside operators.
+BUILTIN_METHODS = set(
+    "append clear copy count endswith extend find get index insert isalnum isalpha isdigit islower isspace isupper"
+    " items join keys ljust lower lstrip partition pop remove replace reverse rfind rjust rpartition rsplit rstrip"
+    " setdefault split splitlines startswith strip update upper values zfill bit_length removeprefix removesuffix"
+    " isascii isdecimal".split()
+)
 AT_TOP = (ast.ImportFrom, ast.FunctionDef, ast.ClassDef, ast.Assign, ast.AnnAssign)
 
 
@@ -165,6 +172,64 @@ class LanguageTest(unittest.TestCase):
             if isinstance(node, ast.FunctionDef):
                 for mark in node.decorator_list:
                     self.assertRegex(ast.unparse(mark), r"^(property|staticmethod|classmethod|\w+\.setter)$", where)
+
+    def test_no_local_name_is_that_of_an_import_or_a_class(self):
+        for name, tree in trees():
+            tops = {part for node in tree.body if isinstance(node, (ast.ImportFrom, ast.ClassDef))
+                    for part in bound_names(node)}
+            inner = [node for top in tree.body if not isinstance(top, ast.ImportFrom) for node in ast.walk(top)
+                     if node != top or not isinstance(top, ast.ClassDef)]
+            for node in inner:
+                if not isinstance(node, ast.FunctionDef):
+                    self.assertEqual(tops & set(bound_names(node)), set(), f"{name}:{getattr(node, 'lineno', 0)}")
+
+    def test_methods_that_are_called(self):
+        methods, attributes = methods_and_attributes()
+        marked = {node.name for where, node in nodes() if isinstance(node, ast.FunctionDef) and node.decorator_list}
+        for where, node in nodes():
+            if isinstance(node, ast.Call) and isinstance(node.func, ast.Attribute):
+                self.assertIn(node.func.attr, BUILTIN_METHODS | methods | marked, where)
+
+    def test_attributes_that_are_read(self):
+        methods, attributes = methods_and_attributes()
+        known = attributes | methods | BUILTIN_METHODS | {
+            part.name for where, node in nodes() if isinstance(node, ast.ClassDef)
+            for part in node.body if isinstance(part, ast.FunctionDef)
+        } | {
+            target.id for where, node in nodes() if isinstance(node, ast.ClassDef)
+            for part in node.body if isinstance(part, ast.Assign) for target in part.targets
+        }
+        for where, node in nodes():
+            if isinstance(node, ast.Attribute) and isinstance(node.ctx, ast.Load):
+                self.assertIn(node.attr, known, where)
+
+    def test_errors_are_raised_on_the_spot(self):
+        names = {node.name for where, node in nodes() if isinstance(node, ast.ClassDef)} | {"TypeError"}
+        for where, node in nodes():
+            if isinstance(node, ast.Raise) and node.exc is not None:
+                self.assertIsInstance(node.exc, ast.Call, where)
+                self.assertIn(ast.unparse(node.exc.func), names, where)
+            if isinstance(node, ast.ExceptHandler):
+                self.assertIsInstance(node.type, ast.Name, where)
+                self.assertIn(node.type.id, names | {"KeyError", "ZeroDivisionError"}, where)
+
+    def test_classes_with_items_are_not_iterated(self):
+        for where, node in nodes():
+            if isinstance(node, ast.ClassDef):
+                names = [part.name for part in node.body if isinstance(part, ast.FunctionDef)]
+                self.assertTrue("__getitem__" not in names or "__iter__" in names, where)
+                self.assertEqual("__eq__" in names, "__lt__" in names, where)
+
+    def test_sets_stand_in_sorted_or_len(self):
+        for where, node in nodes():
+            for inner in ast.iter_child_nodes(node):
+                if isinstance(inner, (ast.Set, ast.SetComp)) or ast.unparse(inner).startswith("set("):
+                    self.assertIsInstance(node, (ast.Call, ast.Compare), where)
+
+    def test_powers_have_literal_exponents(self):
+        for where, node in nodes():
+            if isinstance(node, ast.BinOp) and isinstance(node.op, ast.Pow):
+                self.assertIsInstance(node.right, ast.Constant, where)
 
     def test_no_name_is_a_method_and_an_attribute(self):
         methods, attributes = methods_and_attributes()

@@ -8,21 +8,7 @@ from levelwalks.expressions import access, number
 from levelwalks.forms import Form
 from levelwalks.functions import equal
 from levelwalks.programs import Add, Block, Loop, Program, Use, check
-from tests.helper import KINDS, gains, is_deep_tuple, model_of
-
-ONE = Add(number(1))
-NOTHING = Block(())
-
-
-def use(name, letters, form="-"):
-    return Use(name, tuple(letters), Form.read(form))
-
-
-def each(letters, inside, leaders=((),)):
-    """Loops over these letters, from the outside to the inside, each with one case without needs."""
-    for letter in reversed(letters):
-        inside = Loop(letter, leaders, (((), inside),))
-    return inside
+from tests.helper import KINDS, NOTHING, ONE, each, gains, is_deep_tuple, model_fits, model_leads, model_of, use
 
 
 def illegal_place(program):
@@ -373,31 +359,6 @@ class IllegalTest(unittest.TestCase):
         self.assertIsNone(illegal_place(program))
         program = Program(access("c"), uses, Loop("i", (tuple(range(11)),), ()))
         self.assertEqual(illegal_place(program), ())
-
-
-def resolved(use_of, bound):
-    """The resolved levels of a use, as pairs (kind, letter)."""
-    found = []
-    for kind, axis in zip(use_of.form.kinds, use_of.form.axes):
-        if use_of.letters[axis] not in bound:
-            break
-        found.append((kind, use_of.letters[axis]))
-    return found
-
-
-def model_fits(use_of, bound):
-    levels = resolved(use_of, bound)
-    return not any(
-        levels[upper][1] in bound[bound.index(levels[lower][1]):]
-        for lower in range(len(levels)) for upper in range(lower) if levels[lower][0] == "packed"
-    )
-
-
-def model_leads(use_of, letter, bound):
-    many = len(resolved(use_of, bound))
-    if not model_fits(use_of, bound) or many == len(use_of.letters):
-        return False
-    return use_of.form.kinds[many] != "hashed" and use_of.letters[use_of.form.axes[many]] == letter
 
 
 def model_right(program, node, bound):
