@@ -34,3 +34,11 @@ def all_coordinates(sizes):
     for size in sizes:
         found = [(*at, c) for at in found for c in range(size)]
     return found
+
+
+def chosen(worths, many):
+    """Return all tuples of so many of some values, each in their order, and ascending if they are."""
+    found = [((), list(worths))]
+    for number in range(many):
+        found = [((*start, left[at]), left[at + 1:]) for start, left in found for at in range(len(left))]
+    return [start for start, left in found]

@@ -2,6 +2,7 @@
 
 from levelwalks.basics import ascending, frozen
 from levelwalks.errors import Inconsistent, NoTable, RankClash
+from levelwalks.programs import use_accesses
 
 
 def pairs_down_to(use, depth):
@@ -20,8 +21,7 @@ def ranks_of(programs):
     """Return the number of axes of each name, or raise RankClash for the first that has two."""
     ranks = {}
     for program in programs:
-        uses = [(use.name, use.letters) for use in program.uses]
-        for name, letters in [program.target.parts, *uses]:
+        for name, letters in [program.target.parts, *use_accesses(program)]:
             if ranks.setdefault(name, len(letters)) != len(letters):
                 raise RankClash(name)
     return ranks

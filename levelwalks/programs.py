@@ -143,13 +143,31 @@ def bound_inside(node, bound):
     return bound
 
 
-def check(program):
-    """Raise Illegal with the place of the first node that breaks a rule."""
+def placed_nodes(program):
+    """Return triples of the place, the node and the bound letters for all nodes, each ahead of those inside it."""
+    found = []
     waiting = [((), program.node, ())]
     while len(waiting) > 0:
         place, node, bound = waiting.pop()
-        if not is_right_node(program, node, bound):
-            raise Illegal(place)
+        found.append((place, node, bound))
         bound = bound_inside(node, bound)
         inner = [((*place, at), each, bound) for at, each in enumerate(inner_nodes(node))]
         waiting.extend(inner[::-1])
+    return found
+
+
+def placed_adds(program):
+    """Return pairs of the place and the node for all adds, in their order."""
+    return [(place, node) for place, node, bound in placed_nodes(program) if isinstance(node, Add)]
+
+
+def use_accesses(program):
+    """Return the pairs (name, letters) of the uses of a program, in their order."""
+    return [(use.name, use.letters) for use in program.uses]
+
+
+def check(program):
+    """Raise Illegal with the place of the first node that breaks a rule."""
+    for place, node, bound in placed_nodes(program):
+        if not is_right_node(program, node, bound):
+            raise Illegal(place)

@@ -2,7 +2,7 @@
 
 from levelwalks.counts import Counts
 from levelwalks.errors import TooLarge
-from levelwalks.programs import Add, Block, check, level_letters, resolved_count
+from levelwalks.programs import Add, Block, check, level_letters, resolved_count, use_accesses
 from levelwalks.statements import amount_at, coordinates_at, letter_sizes
 from levelwalks.storing import is_large, is_stored, leads_of
 
@@ -86,8 +86,7 @@ def walked(program, tables, sizes):
 
 def program_sizes(program, tables):
     """Return the size of each letter, if the tables fit a program."""
-    uses = [(use.name, use.letters) for use in program.uses]
-    return letter_sizes([program.target.parts, *uses], tables)
+    return letter_sizes([program.target.parts, *use_accesses(program)], tables)
 
 
 def run(program, tables):

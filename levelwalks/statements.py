@@ -101,8 +101,12 @@ def new_cells(statement, tables, sums):
     return {at: worths[at] for at in worths if worths[at] != 0}
 
 
+def statement_sizes(statement, tables):
+    """Return the size of each letter, if the tables fit a statement."""
+    return letter_sizes([statement.target.parts, *statement.expression.accesses], tables)
+
+
 def plain(statement, tables):
     """Return the new cells of the target, as the statement describes them."""
-    accesses = [statement.target.parts, *statement.expression.accesses]
-    sizes = letter_sizes(accesses, tables)
+    sizes = statement_sizes(statement, tables)
     return new_cells(statement, tables, sums_of(statement, tables, sizes))

@@ -8,6 +8,8 @@ from levelwalks.errors import Illegal
 from levelwalks.expressions import access, number
 from levelwalks.forms import Form
 from levelwalks.programs import Add, Block, Loop, Program, Use, check
+from levelwalks.shops import Shop
+from levelwalks.statements import Statement
 from levelwalks.storing import Stored
 
 KINDS = ("dense", "packed", "bits", "hashed")
@@ -573,3 +575,34 @@ class Maker:
             cells = {at: self.chance.choice([-3, -2, -1, 1, 2, 5]) for at in self.chance.sample(places, min(many, len(places)))}
             found[name] = Stored(shape, self.form(len(letters)), cells)
         return found
+
+
+# Shops.
+PRODUCT = Statement(access("c", "i"), access("a", "i", "k") * access("b", "k"))
+
+
+def new_shop():
+    """A shop with some tables."""
+    shop = Shop()
+    shop.table("a", (3, 3), Form("dense", "packed"), {(0, 1): 5, (1, 0): -2, (1, 2): 7})
+    shop.table("b", (3,), Form("packed"), {(1,): 10, (2,): 1})
+    shop.table("c", (3,), Form("dense"), {(0,): 1, (1,): 2})
+    shop.table("s", (), Form(), {(): 4})
+    return shop
+
+
+def stored_tables(shop):
+    return {name: shop[name].stored for name in shop.names}
+
+
+def forms_of(shop):
+    return {name: shop[name].form.text for name in shop.names}
+
+
+def snapshot(shop):
+    """All that can be seen of a shop but its standing programs."""
+    tables = {
+        name: (shop[name].sizes, shop[name].form.text, shop[name].stored.levels, shop[name].stored.data, shop[name].kept)
+        for name in shop.names
+    }
+    return tables, (shop.spent.turns, shop.spent.additions)

@@ -4,8 +4,8 @@ import inspect
 import unittest
 
 from levelwalks import (
-    counts, errors, expressions, families, forms, functions, polynomials, programs, programtexts, reading, running,
-    statements, storing, tabletexts,
+    counts, errors, expressions, families, forms, functions, judging, making, orders, polynomials, programs, programtexts,
+    reading, running, shops, statements, storing, tabletexts,
 )
 from tests.test_errors import PARAMETERS
 
@@ -21,7 +21,20 @@ FUNCTIONS = (
     (programtexts, {"program_text": ["program"], "read_program": ["text"]}),
     (running, {"run": ["program", "tables"]}),
     (polynomials, {"polynomial": ["expression"], "parting": ["p", "q"]}),
+    (judging, {
+        "alike": ["first", "second"], "right": ["program", "statement"], "full": ["statement"], "never_more": ["first", "second"],
+    }),
+    (orders, {"fitting_order": ["uses", "letters"], "turned": ["use", "order"], "fewest_turned": ["uses", "letters"]}),
+    (making, {
+        "active": ["expression", "living"], "lower": ["statement", "forms", "order"], "tightened": ["program"],
+    }),
 )
+
+
+SHOP_METHODS = {
+    "table": ["name", "sizes", "form", "cells"], "put": ["name", "at", "value"], "reform": ["name", "form"], "run": ["statement"],
+    "standing": ["statement"], "offer": ["statement", "program"], "keep": ["statement"], "batch": [], "together": ["steps"],
+}
 
 
 def parameters(function):
@@ -42,6 +55,9 @@ class InterfaceTest(unittest.TestCase):
         self.assertEqual(running.Result.__module__, "levelwalks.running")
         self.assertEqual(families.Family.__module__, "levelwalks.families")
         self.assertEqual(polynomials.Polynomial.__module__, "levelwalks.polynomials")
+        self.assertEqual(judging.Verdict.__module__, "levelwalks.judging")
+        for name in ("Shop", "Table", "Batch"):
+            self.assertEqual(getattr(shops, name).__module__, "levelwalks.shops")
 
     def test_each_function_stands_in_its_own_file(self):
         for module, told in FUNCTIONS:
@@ -68,6 +84,15 @@ class InterfaceTest(unittest.TestCase):
         signs = "call add radd sub rsub mul rmul pow neg eq".split(" ")
         for name in ["constant", "unknown", "without", *[f"__{sign}__" for sign in signs]]:
             self.assertIn(name, vars(polynomials.Polynomial))
+        self.assertIn("__bool__", vars(judging.Verdict))
+        for name in SHOP_METHODS:
+            self.assertIn(name, vars(shops.Shop))
+        for name in ("__getitem__", "__contains__", "names", "spent"):
+            self.assertIn(name, vars(shops.Shop))
+        for name in ("stored", "form", "kept", "__getitem__", "__setitem__", "__contains__", "__len__"):
+            self.assertIn(name, vars(shops.Table))
+        for name in ("__enter__", "__exit__"):
+            self.assertIn(name, vars(shops.Batch))
 
     def test_properties_and_class_methods(self):
         self.assertIsInstance(vars(forms.Form)["text"], property)
@@ -75,6 +100,12 @@ class InterfaceTest(unittest.TestCase):
         self.assertIsInstance(vars(statements.Statement)["text"], property)
         self.assertIsInstance(vars(statements.Statement)["read"], classmethod)
         self.assertIsInstance(vars(forms.Form)["read"], classmethod)
+        for name in ("names", "spent"):
+            self.assertIsInstance(vars(shops.Shop)[name], property)
+            self.assertIsNone(vars(shops.Shop)[name].fset)
+        for name in ("stored", "kept", "form"):
+            self.assertIsInstance(vars(shops.Table)[name], property)
+            self.assertEqual(vars(shops.Table)[name].fset is not None, name == "form")
         for name in ("constant", "unknown"):
             self.assertIsInstance(vars(polynomials.Polynomial)[name], classmethod)
 
@@ -94,6 +125,11 @@ class InterfaceTest(unittest.TestCase):
         self.assertEqual(parameters(polynomials.Polynomial.unknown), ["name"])
         self.assertEqual(parameters(polynomials.Polynomial.without), ["names"])
         self.assertEqual(parameters(polynomials.Polynomial.__call__), ["values"])
+        for name, told in SHOP_METHODS.items():
+            self.assertEqual(parameters(getattr(shops.Shop, name)), told)
+        self.assertIsNone(inspect.signature(shops.Shop.table).parameters["cells"].default)
+        self.assertIsNone(inspect.signature(making.lower).parameters["order"].default)
+        self.assertEqual(parameters(shops.Shop), [])
 
     def test_the_parameters_of_the_classes(self):
         form = forms.Form("dense", "bits", axes=[1, 0])
@@ -127,6 +163,10 @@ class InterfaceTest(unittest.TestCase):
             (running.run(programs.Program(c, (), add), {"c": storing.Stored((), forms.Form(), {})}), ("cells", "trace", "counts")),
             (families.Family(programs.Program(c, (use,), add)), ("members", "letters", "ranks")),
             (polynomials.Polynomial.constant(3), ("terms",)),
+            (judging.alike(programs.Program(c, (), add), programs.Program(c, (), add)), (
+                "holds", "pattern_count", "sizes", "cells", "point", "binding", "what", "numbers",
+            )),
+            (shops.Shop().table("a", (), forms.Form()), ("name", "sizes", "stored", "form", "kept")),
         ):
             for name in names:
                 self.assertTrue(hasattr(made, name), name)

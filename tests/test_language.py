@@ -192,7 +192,7 @@ class LanguageTest(unittest.TestCase):
 
     def test_attributes_that_are_read(self):
         methods, attributes = methods_and_attributes()
-        known = attributes | methods | BUILTIN_METHODS | {
+        known = attributes | methods | BUILTIN_METHODS | {"setter"} | {
             part.name for where, node in nodes() if isinstance(node, ast.ClassDef)
             for part in node.body if isinstance(part, ast.FunctionDef)
         } | {
