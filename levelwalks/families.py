@@ -44,7 +44,9 @@ class Family:
     """The sets of pairs on which some programs depend. It never changes."""
 
     def __init__(self, *programs):
+        # The dict that is told may be changed by the caller, so the family uses one of its own.
         self.ranks = ranks_of(programs)
+        self.axis_counts = dict(self.ranks)
         self.letters = ascending([letter for program in programs for letter in program.letters])
         self.members = ascending([
             member for program in programs for use in program.uses for member in use_members(use)
@@ -75,7 +77,7 @@ class Family:
         for name, pairs in self.members:
             if name not in tables:
                 raise NoTable(name)
-            if len(tables[name].sizes) != self.ranks[name]:
+            if len(tables[name].sizes) != self.axis_counts[name]:
                 raise RankClash(name)
         spot = dict(zip(self.letters, frozen(point)))
         return tuple([exists(tables[name], pairs, spot) for name, pairs in self.members])
@@ -83,7 +85,7 @@ class Family:
     def small_at(self, member):
         """Return the coordinates at which small tables have the cell of a member."""
         name, pairs = member
-        found = [len(self.letters)] * self.ranks[name]
+        found = [len(self.letters)] * self.axis_counts[name]
         for axis, letter in pairs:
             found[axis] = self.letters.index(letter)
         return tuple(found)
@@ -94,7 +96,7 @@ class Family:
         if not all([self.may_follow(pattern[:at], existing) for at, existing in enumerate(pattern)]):
             raise Inconsistent()
         told = {} if values is None else values
-        cells = {name: {} for name in self.ranks}
+        cells = {name: {} for name in self.axis_counts}
         for member, existing in zip(self.members, pattern):
             if existing:
                 cells[member[0]][self.small_at(member)] = told.get(member, 1)

@@ -122,10 +122,16 @@ def right(program, statement):
     return same_amounts(program, full(statement))
 
 
+def dense_form(rank):
+    """Return the form of dense levels in the order of the axes."""
+    kinds = ["dense"] * rank
+    return Form(*kinds)
+
+
 def full(statement):
     """Return the program that goes through all points of a statement."""
     pairs = {pair: True for pair in statement.expression.accesses}
-    uses = [Use(name, letters, Form(*["dense"] * len(letters))) for name, letters in pairs]
+    uses = [Use(name, letters, dense_form(len(letters))) for name, letters in pairs]
     node = Add(statement.expression)
     for letter in statement.letters[::-1]:
         node = Loop(letter, ((),), (((), node),))

@@ -123,7 +123,8 @@ def changed_sums(statement, program, before, tables, points):
     gone = additions_at(program, before, points)
     made = additions_at(program, tables, points)
     found = {}
-    for point, amount in [*[(point, -amount) for point, amount in gone], *made]:
+    undone = [(point, -amount) for point, amount in gone]
+    for point, amount in [*undone, *made]:
         at = coordinates_at(statement.target.parts[1], dict(zip(statement.letters, point)))
         found[at] = found.get(at, 0) + amount
     return found, len(gone) + len(made)

@@ -61,7 +61,8 @@ def turned(use, order):
     sequence = frozen(order)
     letters = sorted(use.letters, key=lambda letter: sequence.index(letter))
     axes = [use.letters.index(letter) for letter in letters]
-    return Use(use.name, use.letters, Form(*use.form.kinds, axes=axes))
+    kinds = use.form.kinds
+    return Use(use.name, use.letters, Form(*kinds, axes=axes))
 
 
 def tried_without(uses, letters, many):

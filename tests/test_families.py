@@ -133,8 +133,13 @@ class AttributesTest(unittest.TestCase):
     def test_what_is_told_belongs_to_the_caller(self):
         programs = FAMILIES[5]
         first = Family(*programs)
+        whole = (True,) * len(first.members)
+        small = first.small_tables(whole)
         first.ranks.clear()
         self.assertEqual(Family(*programs).ranks, {"c": 1, "a": 2, "b": 1})
+        self.assertEqual(first.small_tables(whole), small)
+        with self.assertRaises(RankClash):
+            first.pattern_at({"a": table((2,))}, (0, 0))
         self.assertEqual([each_use.form.text for each_use in programs[0].uses], ["dense 1, packed 0", "packed 0"])
 
 

@@ -231,8 +231,9 @@ class AlikeTest(VerdictCase):
             if place is not None:
                 self.assertEqual(caught.exception.name if error is RankClash else caught.exception.place, place)
             if error is not NotPolynomial:
-                with self.assertRaises(error):
+                with self.assertRaises(error) as caught:
                     never_more(first, second)
+                self.assertEqual(list(vars(caught.exception).values()), [] if place is None else [place])
 
     def test_unlike_letters_and_targets(self):
         plain = Program(TARGET, (), each("i", ONE))

@@ -226,6 +226,20 @@ class LanguageTest(unittest.TestCase):
                 if isinstance(inner, (ast.Set, ast.SetComp)) or ast.unparse(inner).startswith("set("):
                     self.assertIsInstance(node, (ast.Call, ast.Compare), where)
 
+    def test_stars_of_calls_stand_before_names(self):
+        for where, node in nodes():
+            for part in node.args if isinstance(node, ast.Call) else ():
+                if isinstance(part, ast.Starred):
+                    base = part.value.value if isinstance(part.value, ast.Attribute) else part.value
+                    self.assertIsInstance(base, ast.Name, where)
+
+    def test_what_is_iterated_at_once_is_not_passed_on(self):
+        takers = {"list", "tuple", "dict", "sorted", "sum", "any", "all", "enumerate", "zip", "min", "max"}
+        for where, node in nodes():
+            for part in node.args if isinstance(node, ast.Call) else ():
+                if isinstance(part, ast.Call) and ast.unparse(part.func) in ("range", "zip", "enumerate"):
+                    self.assertIn(ast.unparse(node.func), takers, where)
+
     def test_powers_have_literal_exponents(self):
         for where, node in nodes():
             if isinstance(node, ast.BinOp) and isinstance(node.op, ast.Pow):

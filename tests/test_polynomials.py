@@ -132,6 +132,18 @@ class PolynomialTest(unittest.TestCase):
         self.assertFalse(X == "x")
         self.assertTrue(X != None)  # noqa: E711
 
+    def test_sorted_by_terms(self):
+        found = [p for p, model in some_pairs()]
+        self.assertEqual([p.terms for p in sorted(found)], sorted(p.terms for p in found))
+        self.assertIs(X < X, False)
+
+    def test_other_operands(self):
+        for call in (
+            lambda: X + "x", lambda: "x" + X, lambda: X - None, lambda: () - X, lambda: X * "x", lambda: [] * X, lambda: X < "x", lambda: X < 3,
+        ):
+            with self.assertRaises(TypeError):
+                call()
+
     def test_values(self):
         chance = Random(2)
         for p, model in some_pairs():
