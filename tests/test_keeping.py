@@ -218,6 +218,38 @@ class KeepTest(ShopCase):
                     self.check_kept(shop, keepers)
         self.assertGreater(done, 120)
 
+    def test_offers_forms_and_batches_among_the_changes(self):
+        maker, taken = Maker(62, "ik"), 0
+        chance = maker.chance
+        pool = [("b", ("i",)), ("b", ("k",)), ("a", ("i", "k")), ("d", ("k",)), ("d", ("i",))]
+        for attempt in range(40):
+            shop, keepers = more_tables(new_shop(), "de"), {}
+            for name in "abde":
+                shop[name].form = Form(*["dense"] * len(shop[name].sizes))
+            keepers["c"] = Statement(C, maker.polynomial(chance.sample(pool, 2), 2))
+            shop.keep(keepers["c"])
+            keepers["e"] = Statement(E, C * 2 + maker.polynomial(chance.sample(pool, 1), 1))
+            shop.keep(keepers["e"])
+            for step in range(8):
+                statement = keepers[chance.choice("ce")]
+                try:
+                    shop.offer(statement, lower(statement, {name: maker.form(len(shop[name].sizes)) for name in "abcd"}))
+                    taken += 1
+                except NoBetter:
+                    pass
+                shop[chance.choice("bcde")].form = maker.form(1)
+                name = chance.choice("abd")
+                at = tuple(chance.randrange(3) for axis in shop[name].sizes)
+                before = snapshot(shop)
+                with self.assertRaises(KeyError):
+                    with shop.batch():
+                        self.check_call(shop, keepers, lambda: shop.put(name, at, chance.randint(-3, 3)), False)
+                        raise KeyError
+                self.assertEqual(snapshot(shop), before)
+                self.check_call(shop, keepers, lambda: shop.put(name, at, chance.randint(-3, 3)), False)
+                self.check_call(shop, keepers, lambda: shop.run(Statement(D, access("d", "i") % 3 + access("b", "i") % 3)))
+        self.assertGreater(taken, 20)
+
     def test_the_errors_in_their_order(self):
         shop = more_tables(new_shop())
         shop.table("u", (2,), Form("bits"))
